@@ -1,0 +1,1 @@
+"""Statements whose scans meet what they write."""
