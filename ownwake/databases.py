@@ -172,9 +172,7 @@ def _read_head(line):
 
 def _read_row(line):
     """The row that a line tells, or None."""
-    front, colon, back = line.partition(": ")
+    front, _, back = line.partition(": ")
     number = read_natural(front)
     values = tuple([read_integer(word) for word in back.split(", ")])
-    if colon == "" or number is None or None in values:
-        return None
-    return number, values
+    return None if number is None or None in values else (number, values)

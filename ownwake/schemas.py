@@ -93,11 +93,11 @@ def _read_tables(lines):
 
 def _read_table(line):
     """The table that a line tells, or None if the line does not have the form."""
-    front, opening, rest = line.partition(" (")
+    front, _, rest = line.partition(" (")
     inner, closing, back = rest.partition(")")
     word, _, name = front.partition(" ")
     columns = tuple(inner.split(", "))
-    if opening == "" or closing == "" or word != "table":
+    if closing == "" or word != "table":
         return None
     marked = _read_marked(back)
     if marked is None or not all([is_name(some) for some in (name, *columns, *marked[0], *marked[1])]):

@@ -134,9 +134,8 @@ def _read_comparison(words, dotted, signs, dotted_right):
 def _read_sum(words, dotted):
     """The pair of a cell, or None, and an integer that words tell; or None."""
     if len(words) == 1:
-        k = read_integer(words[0])
-        cell = None if k is not None else _read_cell(words[0], dotted)
-        return None if k is None and cell is None else (cell, k or 0)
+        cell, k = _read_cell(words[0], dotted), read_integer(words[0])
+        return None if cell is None and k is None else (cell, k or 0)
     if len(words) != 3 or words[1] not in ("+", "-"):
         return None
     cell, k = _read_cell(words[0], dotted), read_natural(words[2])
@@ -149,5 +148,5 @@ def _read_cell(word, dotted):
     """The column reference that a word tells, or the column if it has no dot; or None."""
     if not dotted:
         return word if is_name(word) else None
-    alias, dot, column = word.partition(".")
-    return (alias, column) if is_name(alias) and dot == "." and is_name(column) else None
+    alias, _, column = word.partition(".")
+    return (alias, column) if is_name(alias) and is_name(column) else None

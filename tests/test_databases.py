@@ -223,6 +223,10 @@ class Alike(unittest.TestCase):
         self.check(False, one, self.built((0, (1,)), others=((4, (1, 3, 3)), (5, (3, 2, 1)))))
         self.check(False, one, self.built((0, (1,))))
 
+    def test_another_schema(self):
+        other = Schema(*[(*table[:2], (), ()) for table in SCHEMA.tables])
+        self.check(False, Database(SCHEMA), Database(other))
+
 
 class Texts(unittest.TestCase):
     def wrong(self, line, text, schema=SCHEMA):

@@ -1,0 +1,111 @@
+"""Point 2: what holds for all calls."""
+
+import copy
+import random
+import unittest
+
+from ownwake.databases import Database
+from ownwake.errors import WakeError
+from ownwake.lives import LiveRun
+from ownwake.meanings import matches, meaning
+from ownwake.plans import Plan, plans_of
+from ownwake.schemas import Schema
+from ownwake.statements import Statement
+from samples import ODD, is_plain, random_database, random_schema, random_statement
+
+
+class Conventions(unittest.TestCase):
+    def setUp(self):
+        source = random.Random(2)
+        self.cases = []
+        for _ in range(40):
+            schema = random_schema(source)
+            self.cases.append((random_statement(source, schema), random_database(source, schema)))
+
+    def seen(self, thing):
+        """All that an object shows, as plain values."""
+        if isinstance(thing, Schema):
+            return (thing.tables, thing.text, len(thing))
+        if isinstance(thing, Database):
+            return (self.seen(thing.schema), thing.data, thing.text, len(thing))
+        if isinstance(thing, Statement):
+            reads = tuple(thing.reads(alias) for alias, _ in thing.references)
+            return (self.seen(thing.schema), thing.parts, thing.text, reads)
+        if isinstance(thing, Plan):
+            return (self.seen(thing.statement), thing.data, thing.lines)
+        return (self.seen(thing.plan), thing.data, thing.events, thing.raised, thing.ended, thing.refused, len(thing))
+
+    def results(self, statement, database):
+        """What a number of calls return, as plain values."""
+        plans = list(plans_of(statement)) + list(plans_of(statement, hands="many"))
+        found = [tuple(matches(statement, database)), meaning(statement, database)[0],
+                 self.seen(meaning(statement, database)[1]), tuple(plan.data for plan in plans)]
+        for plan in plans[::7]:
+            run = LiveRun(plan, database)
+            found.append((run.go(30), run.play((0, 1, 0)), self.seen(run)))
+            found.append(self.seen(plan.turned("x")))
+        found.append(self.seen(Statement.read(statement.schema, statement.text)))
+        found.append(self.seen(Database.read(database.schema, database.text)))
+        found.append(self.seen(Schema.read(statement.schema.text)))
+        return tuple(found)
+
+    def test_results_are_plain_and_the_same_again(self):
+        for statement, database in self.cases:
+            before = (self.seen(statement), self.seen(database))
+            self.assertTrue(is_plain(before))
+            first = self.results(statement, database)
+            self.assertTrue(is_plain(first))
+            self.assertEqual(self.results(statement, database), first)
+            self.assertEqual((self.seen(statement), self.seen(database)), before)
+
+    def test_arguments_of_any_kind_stay(self):
+        statement, database = self.cases[0]
+        schema = database.schema
+        calls = [
+            lambda thing: Schema(thing), lambda thing: Schema.read(thing), lambda thing: schema[thing],
+            lambda thing: thing in schema, lambda thing: Database(schema, thing),
+            lambda thing: Database.read(schema, thing), lambda thing: database[thing],
+            lambda thing: thing in database, lambda thing: database.row(thing, thing),
+            lambda thing: database.row("t", thing), lambda thing: database.with_row(thing, thing),
+            lambda thing: database.with_row("t", thing), lambda thing: Statement(schema, thing, thing, thing),
+            lambda thing: Statement(schema, "delete", "t", thing, conditions=thing),
+            lambda thing: Statement(schema, "delete", "t", (("x", "t"),), probes=thing, settings=thing),
+            lambda thing: Statement(schema, "delete", "t", (("x", "t"),), told=thing),
+            lambda thing: Statement.read(schema, thing), lambda thing: Plan(statement, thing, thing),
+            lambda thing: Plan(statement, None, thing, hold=thing), lambda thing: Plan(statement, marks=thing),
+            lambda thing: Plan(statement, keep=thing, hands=thing)]
+        for thing in ODD + [[["t"], [], ()], {"a": [{"b": ([],)}]}, ([[("t", 0)]],), "x" * 4000, "\n" * 4000]:
+            before = copy.deepcopy(thing)
+            for call in calls:
+                outcomes = [self.outcome(call, thing) for _ in range(2)]
+                self.assertEqual(outcomes[0], outcomes[1])
+                self.assertEqual(thing, before)
+
+    def outcome(self, call, thing):
+        """What a call returns or raises, so that two of them can be compared."""
+        try:
+            found = call(thing)
+        except WakeError as error:
+            return type(error), vars(error)
+        return found
+
+    def test_parts_are_the_caller_s_tuples(self):
+        tables = (("t", ("a",), (), ()),)
+        data = (("t", 1, ((0, (1,)),)),)
+        schema = Schema(*tables)
+        database = Database(schema, data)
+        database.with_row("t", 5)
+        self.assertEqual((tables, data), ((("t", ("a",), (), ()),), (("t", 1, ((0, (1,)),)),)))
+
+    def test_integers_of_many_digits(self):
+        big = 10 ** 39
+        schema = Schema(("t", ("a",), ("a",), ()))
+        database = Database(schema, (("t", big, ((0, (-big,)), (big - 1, (big,)))),))
+        statement = Statement(schema, "update", "t", (("x", "t"),), settings=(("a", ("x", "a"), big),))
+        self.assertEqual(meaning(statement, database)[1].data, (("t", big, ((0, (0,)), (big - 1, (2 * big,)))),))
+        self.assertEqual(Statement.read(schema, statement.text), statement)
+        self.assertEqual(Database.read(schema, database.text), database)
+
+
+if __name__ == "__main__":
+    unittest.main()
