@@ -66,6 +66,12 @@ class Levels:
         level, cells = len(copies), self.cells(copies)
         return all_hold(self._tested[level - 1], cells) and all_answered(self._probes[level - 1], cells)
 
+    def fails_alone(self, level, row):
+        """Whether a row fails the tests of its level whatever the copies before it are."""
+        cells = row_cells([(self._plan.order[level - 1], self._columns[level - 1], row[1])])
+        alone = [some for some in self._tested[level - 1] if some[0] in cells and (some[2] is None or some[2] in cells)]
+        return not (all_hold(alone, cells) and all_answered(self._probes[level - 1], cells))
+
     def bounds(self, outer):
         """The least and the most value, or None, of the scan of the level behind these copies."""
         bounding = self._bounding[len(outer)]

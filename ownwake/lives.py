@@ -29,6 +29,7 @@ class LiveRun:
         self._at = None
         self._events = []
         self._raised = []
+        self._writes = []
 
     def _table_for(self, level):
         """The table that a level reads: the one that is written, or one that stays as at the beginning."""
@@ -41,6 +42,11 @@ class LiveRun:
     def plan(self):
         """The plan."""
         return self._plan
+
+    @property
+    def database(self):
+        """The database of the beginning."""
+        return self._database
 
     @property
     def data(self):
@@ -58,6 +64,11 @@ class LiveRun:
     def raised(self):
         """The tellings, in the order in which they were raised."""
         return tuple(self._raised)
+
+    @property
+    def writes(self):
+        """Of each raised match the numbers, the copies and the row that it wrote, removed or made, or None."""
+        return tuple(self._writes)
 
     @property
     def ended(self):
@@ -177,22 +188,30 @@ class LiveRun:
 
     def _raise_match(self, copies):
         """Note the telling of a match, write, and return the numbers of the match."""
-        statement, cells = self._plan.statement, self._levels.cells(copies)
+        cells = self._levels.cells(copies)
         numbers = self._levels.numbers(copies)
-        self._raised.append(telling(statement, numbers, cells))
-        if statement.kind == "insert":
-            values = made(statement, cells)
-            self._touched[self._table.put(*values)] = True
-        elif statement.kind == "update":
-            self._change(numbers[0], cells)
-        elif numbers[0] in self._table:
-            self._table.drop(numbers[0])
+        self._raised.append(telling(self._plan.statement, numbers, cells))
+        self._writes.append((numbers, copies, self._write(numbers[0], cells)))
         return numbers
 
-    def _change(self, number, cells):
-        """Give a target its settings; what it has already is not written."""
-        old = self._table.values_of(number)
-        new = settled(self._plan.statement, cells, old)
-        if new != old:
-            self._table.change(number, new)
+    def _write(self, target, cells):
+        """Write what a match with this first row says; return the row that was written, removed or made, or None."""
+        statement = self._plan.statement
+        if statement.kind == "insert":
+            values = made(statement, cells)
+            number = self._table.put(*values)
             self._touched[number] = True
+            return number
+        if target not in self._table:
+            return None
+        if statement.kind == "delete":
+            self._table.drop(target)
+            return target
+        # What a target has already is not written.
+        old = self._table.values_of(target)
+        new = settled(statement, cells, old)
+        if new == old:
+            return None
+        self._table.change(target, new)
+        self._touched[target] = True
+        return target

@@ -124,6 +124,8 @@ class SlowRun:
         parts = {part[0]: part for part in database.data}
         self.live = SlowTable(parts[statement.table][2], parts[statement.table][1])
         self.events, self.raised, self.limit = [], [], limit
+        # Of each raised match its copies by alias, and the row that it wrote, removed or made, or None.
+        self.copied, self.wrote = [], []
         self.tables = {}
         for alias, table in statement.references:
             same = table == statement.table and not plan.keep
@@ -199,18 +201,22 @@ class SlowRun:
         self.raised.append((numbers, told_of(statement, rows)))
         settings = dict(settings_of(statement, rows))
         columns = statement.schema[statement.table][1]
+        self.copied.append(by_alias)
+        self.wrote.append(None)
         if statement.kind == "insert":
             live.rows[live.following] = tuple(settings[column] for column in columns)
             live.touched.add(live.following)
+            self.wrote[-1] = live.following
             live.following += 1
         elif statement.kind == "delete":
-            live.rows.pop(numbers[0], None)
+            self.wrote[-1] = numbers[0] if live.rows.pop(numbers[0], None) is not None else None
         else:
             old = live.rows[numbers[0]]
             new = tuple(settings.get(column, cell) for column, cell in zip(columns, old))
             if new != old:
                 live.rows[numbers[0]] = new
                 live.touched.add(numbers[0])
+                self.wrote[-1] = numbers[0]
 
     def by_one_hand(self):
         """Run to the end, or to the limit; return whether it is the end."""
@@ -278,7 +284,49 @@ class SlowHands(SlowRun):
         return self.events[-1]
 
 
-ALIASES = ("x", "y")
+    def is_idle(self):
+        """Whether no hand can make an event, also none that has not stepped yet."""
+        for own in self.hands.values():
+            if own["due"] is not None:
+                return False
+            if own["outer"] is not None and self.after(2, [own["outer"]], own["place"]) is not None:
+                return False
+        return self.after(1, [], self.shared) is None
+
+
+def read_columns(statement, alias):
+    """The columns that a reference reads, from the parts of the statement."""
+    cells = [cell for some in statement.conditions for cell in (some[0], some[2])]
+    cells += [some[3][2] for some in statement.probes] + [some[1] for some in statement.settings]
+    return {cell[1] for cell in [*cells, *statement.told] if cell is not None and cell[0] == alias}
+
+
+def slow_verdict(slow, ended):
+    """The verdict of a slow run, by the words of the document."""
+    statement, database = slow.statement, slow.database
+    matches = slow_matches(statement, database)
+    seen = []
+
+    def writer(numbers):
+        rows = [number for number, (_, table) in zip(numbers, statement.references) if table == statement.table]
+        return next(told for (told, _), row in zip(slow.raised, slow.wrote) if row is not None and row in rows)
+
+    for (numbers, _), copies in zip(slow.raised, slow.copied):
+        if numbers not in matches:
+            return "extra", numbers, writer(numbers)
+        if numbers in seen:
+            return "again", numbers, writer(numbers)
+        for (alias, table), number in zip(statement.references, numbers):
+            columns = statement.schema[table][1]
+            old = dict(database[table])[number]
+            for column in read_columns(statement, alias):
+                if copies[alias][1][columns.index(column)] != old[columns.index(column)]:
+                    return "changed", numbers, writer(numbers)
+        seen.append(numbers)
+    if not ended:
+        return ("open",)
+    missing = [numbers for numbers in matches if numbers not in seen]
+    return ("missing", missing[0], writer(missing[0])) if missing else ("plain",)
 
 
 def random_schema(source):

@@ -119,6 +119,26 @@ class Form(unittest.TestCase):
                     for part in node.args:
                         self.assertNotIsInstance(part, ast.GeneratorExp, (name, node.lineno))
 
+    def test_reversed_and_stars(self):
+        # Where a class has `__getitem__`, only what surely is a list or the like is reversed.
+        for name, node in nodes(ast.Call):
+            if getattr(node.func, "id", "") == "reversed":
+                made = getattr(getattr(node.args[0], "func", None), "id", "")
+                self.assertTrue(made in ("list", "tuple", "sorted", "range") or isinstance(node.args[0], (ast.List, ast.Tuple)),
+                                (name, node.lineno))
+            for part in node.args:
+                if isinstance(part, ast.Starred):
+                    self.assertIsInstance(part.value, (ast.Name, ast.Attribute, ast.Constant, ast.List, ast.Tuple), name)
+            for word in node.keywords:
+                self.assertIsNotNone(word.arg, (name, node.lineno))
+        self.assertEqual(list(nodes((ast.Lambda, ast.NamedExpr))), [])
+
+    def test_library(self):
+        words = {"heapq": {"heappush", "heappop"}, "math": {"gcd"}, "itertools": {"product", "combinations", "permutations"}}
+        for name, node in nodes(ast.ImportFrom):
+            if node.module in MODULES:
+                self.assertLessEqual({alias.name for alias in node.names}, words[node.module], name)
+
     def test_sets(self):
         parents = {}
         for _, node in nodes(ast.AST):
