@@ -26,3 +26,10 @@ def is_tuple(thing, size):
 def is_ascending(things):
     """Whether things that can be compared are sorted, without duplicates."""
     return all([one < other for one, other in zip(things, things[1:])])
+
+
+def is_same(thing, expected):
+    """Whether any value is built as a value of tuples, strings and integers; True and False are no integers."""
+    if isinstance(expected, tuple):
+        return is_tuple(thing, len(expected)) and all([is_same(one, other) for one, other in zip(thing, expected)])
+    return thing == expected and not isinstance(thing, bool)

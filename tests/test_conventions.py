@@ -4,13 +4,21 @@ import copy
 import random
 import unittest
 
+from ownwake.clauses import settle, tree_holds
 from ownwake.databases import Database
+from ownwake.deciding import decide
+from ownwake.differences import ring_holds, solution_holds, solve
 from ownwake.errors import WakeError
+from ownwake.keylooks import key_clauses, key_look, never_holds, refuses_holds, run_by_rows
 from ownwake.lives import LiveRun
 from ownwake.meanings import matches, meaning
 from ownwake.plans import Plan, plans_of
 from ownwake.schemas import Schema
+from ownwake.soundchecks import disturbed_holds, sound_holds
 from ownwake.statements import Statement
+from ownwake.suspects import suspects_of
+from ownwake.verdicts import verdict
+from ownwake.weavings import find_weaving, weavings
 from samples import ODD, is_plain, random_database, random_schema, random_statement
 
 
@@ -42,12 +50,33 @@ class Conventions(unittest.TestCase):
                  self.seen(meaning(statement, database)[1]), tuple(plan.data for plan in plans)]
         for plan in plans[::7]:
             run = LiveRun(plan, database)
-            found.append((run.go(30), run.play((0, 1, 0)), self.seen(run)))
+            found.append((run.go(30), run.play((0, 1, 0)), self.seen(run), verdict(run), self.seen(run)))
             found.append(self.seen(plan.turned("x")))
+            found.append(self.decided(plan))
+            found.append(self.looked_at(plan, database))
+            found.append((tuple(weavings(plan, database, limit=7)), find_weaving(plan, database, limit=7)))
         found.append(self.seen(Statement.read(statement.schema, statement.text)))
         found.append(self.seen(Database.read(database.schema, database.text)))
         found.append(self.seen(Schema.read(statement.schema.text)))
         return tuple(found)
+
+    def decided(self, plan):
+        """What is found of a plan without running it."""
+        told = suspects_of(plan)
+        clauses = [some for _, some in told]
+        atoms = tuple(atom for some in clauses for clause in some for alternative in clause for atom in alternative)
+        return told, decide(plan), tuple(settle(some) for some in clauses), solve(atoms)
+
+    def looked_at(self, plan, database):
+        """What comes of looking at keys row by row, or the kinds of the errors."""
+        calls = [lambda: key_clauses(plan), lambda: key_look(plan), lambda: run_by_rows(plan, database)[:2]]
+        return tuple(self.named(call) for call in calls)
+
+    def named(self, call):
+        try:
+            return call()
+        except WakeError as error:
+            return type(error).__name__, error.plan_data
 
     def test_results_are_plain_and_the_same_again(self):
         for statement, database in self.cases:
@@ -60,7 +89,8 @@ class Conventions(unittest.TestCase):
 
     def test_arguments_of_any_kind_stay(self):
         statement, database = self.cases[0]
-        schema = database.schema
+        schema, plan = database.schema, Plan(statement)
+        chained = Plan(Statement(schema, "update", "t", (("x", "t"),), settings=(("a", ("x", "a"), 1),)))
         calls = [
             lambda thing: Schema(thing), lambda thing: Schema.read(thing), lambda thing: schema[thing],
             lambda thing: thing in schema, lambda thing: Database(schema, thing),
@@ -73,7 +103,11 @@ class Conventions(unittest.TestCase):
             lambda thing: Statement(schema, "delete", "t", (("x", "t"),), told=thing),
             lambda thing: Statement.read(schema, thing), lambda thing: Plan(statement, thing, thing),
             lambda thing: Plan(statement, None, thing, hold=thing), lambda thing: Plan(statement, marks=thing),
-            lambda thing: Plan(statement, keep=thing, hands=thing)]
+            lambda thing: Plan(statement, keep=thing, hands=thing), lambda thing: ring_holds((), thing),
+            lambda thing: solution_holds((), thing), lambda thing: tree_holds(((),), thing),
+            lambda thing: sound_holds(plan, thing), lambda thing: disturbed_holds(plan, thing),
+            lambda thing: disturbed_holds(plan, (database.data, thing)), lambda thing: refuses_holds(chained, thing),
+            lambda thing: never_holds(chained, thing)]
         for thing in ODD + [[["t"], [], ()], {"a": [{"b": ([],)}]}, ([[("t", 0)]],), "x" * 4000, "\n" * 4000]:
             before = copy.deepcopy(thing)
             for call in calls:

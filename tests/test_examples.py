@@ -3,12 +3,16 @@
 import unittest
 
 from ownwake.databases import Database
+from ownwake.deciding import decide
 from ownwake.errors import Duplicate
+from ownwake.keylooks import key_look, run_by_rows
 from ownwake.lives import LiveRun
 from ownwake.meanings import meaning
 from ownwake.plans import Plan
 from ownwake.schemas import Schema
 from ownwake.statements import Statement
+from ownwake.suspects import suspects_of
+from ownwake.verdicts import verdict
 
 SCHEMA = Schema(("t", ("a", "b"), ("a",), ()))
 DATA = Database(SCHEMA, (("t", 2, ((0, (1, 0)), (1, (4, 0)))),))
@@ -31,9 +35,20 @@ class Examples(unittest.TestCase):
 
     def test_live_run(self):
         run = LiveRun(UP, DATA)
-        self.assertEqual([run.go(), len(run), run.events[:3], run.data], [
+        self.assertEqual([run.go(), len(run), run.events[:3], run.data, verdict(run)], [
             True, 8, (('fetch', 0, 1, 0), ('raise', 0, (0,)), ('fetch', 0, 1, 0)),
-            (('t', 2, ((0, (7, 0)), (1, (6, 0)))),)])
+            (('t', 2, ((0, (7, 0)), (1, (6, 0)))),), ('again', (0,), (0,))])
+
+    def test_its_only_suspect(self):
+        self.assertEqual([suspects_of(UP), decide(UP)[0], decide(UP.turned("x"))], [
+            ((('raised', (1,), (0,)), ((((('written', (0,), 'a'), (), 3),),), (((('written', (0,), 'a'), (), 5),),))),),
+            'disturbed', ('sound', ())])
+
+    def test_keys_row_by_row(self):
+        following = Statement(KEYED, "update", "t", (("x", "t"),), conditions=((("x", "k"), "<=", None, 9),),
+                              settings=(("k", ("x", "k"), 1),))
+        looks = [key_look(Plan(following))[0], key_look(Plan(following, None, (("down", "k"),)))[0]]
+        self.assertEqual([run_by_rows(Plan(following), TWO), *looks], [('refused', 0, 'k', 2), 'refuses', 'never'])
 
     def test_a_statement_that_is_refused(self):
         five = Statement(KEYED, "update", "t", (("x", "t"),), settings=(("k", None, 5),))
