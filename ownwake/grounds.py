@@ -14,7 +14,8 @@ def formulas_of(scene):
     formulas = [condition_holds(some, sight) for sight in sights for some in scene.plan.statement.conditions]
     formulas = formulas + [formula for at, sight in zip((0, *scene.levels), sights)
                            for formula in answers(scene.plan.statement, sight, (at,))]
-    formulas = formulas + [_is_written(scene, level) for level in scene.levels if _sets_columns(scene)]
+    if scene.plan.statement.kind == "update":
+        formulas = formulas + [_is_written(scene, level) for level in scene.levels]
     formulas = formulas + [writer_is_ahead(scene, scene.writers[level], level) for level in scene.levels]
     return formulas + _rows_unlike(scene) + _rows_unchanged(scene)
 
@@ -54,11 +55,6 @@ def _link_fails(probe, sight, role, row):
     """The formula that a row does not have a probe's link to a match."""
     column, sign, reference, k = probe[3]
     return compare(((role, row, column), 0), OPPOSITE[sign], _sum_of(sight, reference, k))
-
-
-def _sets_columns(scene):
-    """Whether the rows that were written are to have other values than before."""
-    return scene.plan.statement.kind == "update"
 
 
 def _marked_columns(scene, level):

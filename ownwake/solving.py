@@ -25,10 +25,12 @@ class Solver:
             outlooks = {at: self._outlook(at) for at in failing}
             is_tightened = False
             for possible, reason in list(outlooks.values()):
+                if possible == []:
+                    return reason
                 atoms = [atom for atom in _weakest(possible) if not self._choices.has(atom)]
                 found = self._choices.choose(reason, atoms)
-                if possible == [] or found is not None:
-                    return reason if possible == [] else found[1]
+                if found is not None:
+                    return found[1]
                 is_tightened = is_tightened or atoms != []
             if not is_tightened:
                 _, at = min([(len(outlooks[at][0]), at) for at in failing])
@@ -41,7 +43,8 @@ class Solver:
             found = self._choices.attempt((at,), alternative)
             if found is None:
                 possible.append(alternative)
-            for owner in () if found is None else found[1]:
+                continue
+            for owner in found[1]:
                 reason[owner] = True
         return possible, tuple(sorted([owner for owner in reason if owner != at]))
 
@@ -66,7 +69,7 @@ class Solver:
 def _weakest(alternatives):
     """The atoms over those pairs of unknowns that each of the alternatives compares, as all of them allow."""
     bounds = [_bounds(alternative) for alternative in alternatives]
-    pairs = [pair for pair in bounds[0] if all([pair in some for some in bounds])] if bounds != [] else []
+    pairs = [pair for pair in bounds[0] if all([pair in some for some in bounds])]
     return [(*pair, max([some[pair] for some in bounds])) for pair in pairs]
 
 

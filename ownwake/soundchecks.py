@@ -1,8 +1,8 @@
 """Checks of what is told of a plan: trees for its suspects, or a database on which it is disturbed."""
 
 from ownwake.clauses import tree_holds
-from ownwake.errors import Duplicate, InvalidDatabase
 from ownwake.databases import Database
+from ownwake.errors import Duplicate, InvalidDatabase
 from ownwake.forms import is_natural, is_same, is_tuple
 from ownwake.lives import LiveRun
 from ownwake.suspects import suspects_of

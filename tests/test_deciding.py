@@ -9,7 +9,7 @@ from lively import lively_database, lively_statement
 from ownwake.databases import Database
 from ownwake.deciding import decide
 from ownwake.lives import LiveRun
-from ownwake.plans import Plan, plans_of
+from ownwake.plans import plans_of
 from ownwake.schemas import Schema
 from ownwake.soundchecks import disturbed_holds, sound_holds
 from ownwake.statements import Statement
