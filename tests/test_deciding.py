@@ -8,8 +8,9 @@ import unittest
 from lively import lively_database, lively_statement
 from ownwake.databases import Database
 from ownwake.deciding import decide
+from ownwake.exhibits import exhibit
 from ownwake.lives import LiveRun
-from ownwake.plans import plans_of
+from ownwake.plans import Plan, plans_of
 from ownwake.schemas import Schema
 from ownwake.soundchecks import disturbed_holds, sound_holds
 from ownwake.statements import Statement
@@ -17,7 +18,7 @@ from ownwake.suspects import suspects_of
 from ownwake.verdicts import verdict
 from ownwake.weavings import find_weaving
 from samples import SlowHands, SlowRun, is_plain, slow_verdict
-from variants import slow_tree
+from variants import clause, side, slow_tree
 
 DISTURBED = ("extra", "again", "changed", "missing")
 SMALL = Schema(("p", ("q",), (), ()), ("t", ("a",), ("a",), ()), ("u", ("c",), (), ()))
@@ -79,6 +80,34 @@ def all_databases(schema, rows, values):
         parts.append(choices)
     for data in itertools.product(*parts):
         yield Database(schema, data)
+
+
+class Exhibits(unittest.TestCase):
+    TEXT = "update t from x t, w t\nwhere x.a <= w.a\nnone p where q = x.a\nset a to x.a + 1"
+
+    def shown(self, clauses, **values):
+        """The data that values tell; unknowns are written as in the tests of suspects."""
+        plan = Plan(Statement.read(SMALL, self.TEXT))
+        pairs = tuple((side(name.replace("_", ".").replace("N", "#")), value) for name, value in values.items())
+        return exhibit(plan, {"written": 2, "other": 0}, clauses, pairs).data
+
+    def test_numbers_are_shifted(self):
+        data = self.shown((), w0N=-7, w0a=5, w1N=-9, w1a=6)
+        self.assertEqual(data, (("p", 0, ()), ("t", 3, ((0, (6,)), (2, (5,)))), ("u", 0, ())))
+        data = self.shown((), w0N=10 ** 13, w1N=10 ** 13 + 1, w0a=1)
+        self.assertEqual(data[1], ("t", 2, ((0, (1,)), (1, (0,)))))
+
+    def test_rows_of_probes(self):
+        # Of the rows of matches that must fail, only those are taken by which they do.
+        further = clause("f1.0.1q - 0 <= 4, 0 - f1.0.1q <= -4", "w0a - w1a <= 0")
+        sure = clause("f0q - w0a <= 0")
+        values = {"w0a": 3, "w1a": 1, "w0N": 0, "w1N": 1, "f0q": 2}
+        data = self.shown((further, sure), f1_0_1q=4, **values)
+        self.assertEqual(data[0], ("p", 2, ((0, (2,)), (1, (4,)))))
+        for q in (3, 5):
+            data = self.shown((further, sure), f1_0_1q=q, **values)
+            self.assertEqual(data[0], ("p", 1, ((0, (2,)),)))
+        self.assertEqual(self.shown((further,), f1_0_1q=3, **values)[0], ("p", 0, ()))
 
 
 class AgainstAllSmallDatabases(DecideTest):

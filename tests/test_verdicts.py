@@ -69,6 +69,12 @@ class ByOneHand(VerdictTest):
         self.check(plan, built([(1, 0), (1, 0), (4, 0)]), [(0, 2), (1, 0), (1, 1), (1, 2)],
                    ("extra", (1, 0), (0, 2)))
 
+    def test_extra_by_the_outer_row(self):
+        # Row 1 is no w of a match until (1, 0) gives it 4.
+        statement = update(XW, settings=(("a", A, 3),), conditions=((WA, "=", None, 4), (A, "<=", WB, 0)))
+        plan = Plan(statement, ("w", "x"))
+        self.check(plan, built([(4, 1), (1, 5), (3, 0)]), [(1, 0), (0, 1), (1, 1), (2, 1)], ("extra", (0, 1), (1, 0)))
+
     def test_extra_of_a_new_row(self):
         self.check(Plan(NEW), built([(1, 0)]), [(0,), (9,)], ("extra", (9,), (0,)))
         # The writer is the match for which the row was made, not the first one.

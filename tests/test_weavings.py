@@ -166,6 +166,18 @@ class Finding(unittest.TestCase):
         one = planned("update t from x t, y u\nwhere x.a <= 4\nwhere y.d <= x.b\nset a to x.a + 1", None, (UP, HEAP), "one")
         self.check(one, rows, 18)
 
+    def test_limits_that_are_not_told(self):
+        # The last row is met at 13, where row 1 stands, too; until then each match was right.
+        text = "update t from x t, y u\nwhere x.a <= 20\nwhere y.d = x.a\nset a to x.a + 10"
+        plan = planned(text, None, (UP, HEAP), "one")
+        rows = built([(1, 0, 0), (13, 0, 0), (3, 0, 0)], [(1, 0), (3, 0), (13, 0)])
+        self.assertEqual(find_weaving(plan, rows), (0,) * 24)
+        self.assertIsNone(find_weaving(plan, rows, limit=23))
+        plan = planned("update t from x t\nwhere x.a <= 8\nset a to x.a + 1", None, (UP,), "one")
+        self.assertEqual(list(weavings(plan, built([(1, 0, 0)]))), [(0,) * 16])
+        self.assertEqual(list(weavings(plan, built([(0, 0, 0)]))), [])
+        self.assertEqual(list(weavings(plan, built([(0, 0, 0)]), limit=18)), [(0,) * 18])
+
     def test_missing_at_the_very_end(self):
         # All that is raised is right; only when nothing is left, a match is missing.
         plan = planned("delete t from x t, y u", ("y", "x"))

@@ -1,0 +1,56 @@
+"""The interface: which names stand in which file, with which arguments."""
+
+import importlib
+import inspect
+import unittest
+
+FUNCTIONS = {
+    "meanings": ["matches(statement, database)", "meaning(statement, database)"],
+    "scans": ["is_ahead(path, one, other)"],
+    "plans": ["plans_of(statement, *, hands='one')"],
+    "verdicts": ["verdict(run)"],
+    "weavings": ["weavings(plan, database, *, hands=2, limit=16)", "find_weaving(plan, database, *, hands=2, limit=24)"],
+    "differences": ["solve(atoms)", "solution_holds(clauses, thing)", "ring_holds(atoms, thing)"],
+    "clauses": ["settle(clauses)", "tree_holds(clauses, thing)"],
+    "suspects": ["suspects_of(plan)"],
+    "deciding": ["decide(plan)"],
+    "soundchecks": ["sound_holds(plan, thing)", "disturbed_holds(plan, thing)"],
+    "keylooks": ["run_by_rows(plan, database)", "key_clauses(plan)", "key_look(plan)", "refuses_holds(plan, thing)",
+                 "never_holds(plan, thing)"],
+}
+CLASSES = {
+    ("schemas", "Schema"): ["read", "__getitem__", "__contains__", "__len__", "__eq__", "tables", "text"],
+    ("databases", "Database"): ["read", "__getitem__", "__contains__", "__len__", "__eq__", "row", "with_row", "alike",
+                                "schema", "data", "text"],
+    ("statements", "Statement"): ["read", "reads", "__eq__", "kind", "table", "references", "conditions", "probes",
+                                  "settings", "told", "parts", "text"],
+    ("scans", "LiveTable"): ["put", "change", "drop", "rows", "__len__", "__contains__", "next_row", "scan"],
+    ("plans", "Plan"): ["turned", "__eq__", "statement", "data", "order", "paths", "hold", "marks", "keep", "hands",
+                        "lines"],
+    ("lives", "LiveRun"): ["step", "go", "play", "__len__", "plan", "data", "events", "raised", "ended", "refused"],
+}
+
+
+class Interface(unittest.TestCase):
+    def test_functions(self):
+        for name, told in FUNCTIONS.items():
+            module = importlib.import_module("ownwake." + name)
+            for some in told:
+                function = getattr(module, some.partition("(")[0])
+                self.assertEqual(function.__name__ + str(inspect.signature(function)), some)
+                self.assertEqual(function.__module__, module.__name__)
+
+    def test_generators(self):
+        for name, word in [("meanings", "matches"), ("plans", "plans_of"), ("weavings", "weavings")]:
+            self.assertTrue(inspect.isgeneratorfunction(getattr(importlib.import_module("ownwake." + name), word)))
+
+    def test_classes(self):
+        for (name, word), members in CLASSES.items():
+            found = getattr(importlib.import_module("ownwake." + name), word)
+            self.assertEqual(found.__module__, "ownwake." + name)
+            for member in members:
+                self.assertIn(member, vars(found))
+
+
+if __name__ == "__main__":
+    unittest.main()
