@@ -251,8 +251,11 @@ class TreeHolds(unittest.TestCase):
             self.assertTrue(self.holds(deeper, clauses))
             self.assertFalse(self.holds(("split", self.ALSO, (deeper, self.TREE)), clauses))
             self.assertFalse(self.holds(("split", self.LESS, (deeper,)), clauses))
-        # It may be split on two ways.
+        # It may be split on two ways, but on the second one no more often than on the first one.
         self.assertTrue(self.holds(("split", self.ALSO, (self.TREE, self.TREE))))
+        twice = ("split", self.UNLIKE, (self.TREE, self.SECOND))
+        self.assertFalse(self.holds(("split", self.ALSO, (self.TREE, twice))))
+        self.assertFalse(self.holds(("split", self.ALSO, (twice, self.TREE))))
 
     def test_only_what_was_chosen_counts(self):
         # On the second way the first alternative is not chosen any more, and before a split neither is.

@@ -8,6 +8,8 @@ import unittest
 
 from lively import lively_database, lively_statement
 from ownwake.databases import Database
+from ownwake.handbounds import LeastEvents
+from ownwake.handmoves import HandMoves
 from ownwake.lives import LiveRun
 from ownwake.plans import Plan, plans_of
 from ownwake.schemas import Schema
@@ -151,6 +153,14 @@ class Finding(unittest.TestCase):
         self.check(planned(*self.LESSER), FULL, 8, hands=2)
         self.assertIsNone(find_weaving(planned(*self.LESSER, "one"), FULL))
 
+    def test_new_rows_of_many_values(self):
+        # The first new row has 5, which passes for the last outer row alone; the second one has 0, and passes at once.
+        plan = planned("insert t from x t, y u\nwhere x.a <= y.d\nset a to y.e\nset b to 0\nset c to 0", ("y", "x"))
+        rows = built([(0, 0, 0)], [(0, 5), (0, 0), (5, 9)])
+        self.check(plan, rows, 10, hands=1)
+        # By two hands the second outer row need not wait for the first one.
+        self.check(plan, rows, 6, hands=2)
+
     def test_hands_below_the_number(self):
         for hands in (2, 3, 9):
             found = find_weaving(planned(*self.LESSER), FULL, hands=hands)
@@ -191,30 +201,77 @@ class Finding(unittest.TestCase):
 
 
 class AgainstAllOrders(unittest.TestCase):
+    def compare(self, plan, database, hands, limit):
+        """Compare what is found with all orders; return whether there are several, and some that disturb."""
+        ways = list(all_ways(SlowHands(plan, database), hands, limit))
+        expected = sorted(weaving for weaving, slow in ways if slow.is_idle())
+        told = (plan.statement.text, plan.data, database.data)
+        self.assertEqual(list(weavings(plan, database, hands=hands, limit=limit)), expected, told)
+        wrong = [weaving for weaving, slow in ways if slow_verdict(slow, slow.is_idle())[0] in DISTURBED]
+        found = find_weaving(plan, database, hands=hands, limit=limit)
+        self.assertEqual(found is None, wrong == [], told)
+        if found is not None:
+            run = LiveRun(plan, database)
+            self.assertEqual(run.play(found), len(found))
+            self.assertIn(verdict(run)[0], DISTURBED)
+        return len(expected) > 3, wrong != []
+
     def test_many_plans(self):
         source = random.Random(181)
-        ended = disturbed = 0
+        seen = []
         for _ in range(150):
             statement = lively_statement(source, source.choice(("update", "insert", "delete")), probes=0.1)
             database = lively_database(source, statement.schema, spread=1, least=1)
             plans = list(plans_of(statement, hands="many"))
             for plan in source.sample(plans, min(2, len(plans))):
                 hands = source.choice((1, 2, 2, 3))
-                limit = source.choice((6, 9)) if hands < 3 else 6
-                ways = list(all_ways(SlowHands(plan, database), hands, limit))
-                expected = sorted(weaving for weaving, slow in ways if slow.is_idle())
-                self.assertEqual(list(weavings(plan, database, hands=hands, limit=limit)), expected)
-                wrong = [weaving for weaving, slow in ways if slow_verdict(slow, slow.is_idle())[0] in DISTURBED]
-                found = find_weaving(plan, database, hands=hands, limit=limit)
-                self.assertEqual(found is None, wrong == [])
-                if found is not None:
-                    run = LiveRun(plan, database)
-                    self.assertEqual(run.play(found), len(found))
-                    self.assertIn(verdict(run)[0], DISTURBED)
-                ended += len(expected) > 3
-                disturbed += wrong != []
-        self.assertGreater(ended, 10)
-        self.assertGreater(disturbed, 20)
+                seen.append(self.compare(plan, database, hands, source.choice((6, 9)) if hands < 3 else 6))
+        self.assertGreater(sum(several for several, _ in seen), 10)
+        self.assertGreater(sum(disturbed for _, disturbed in seen), 20)
+
+    def test_new_rows_by_an_index(self):
+        # Which new rows a scan can return, and which of them pass, depends on the outer rows.
+        source = random.Random(182)
+        seen = []
+        while len(seen) < 120:
+            statement = lively_statement(source, "insert", 2, conditions=2, probes=0)
+            if {table for _, table in statement.references} == {"u"}:
+                continue
+            database = lively_database(source, statement.schema, most=2, spread=1, least=1)
+            plans = [plan for plan in plans_of(statement, hands="many") if plan.paths[1] != ("heap",)]
+            for plan in source.sample(plans, min(2, len(plans))):
+                seen.append(self.compare(plan, database, 2, 9))
+        self.assertGreater(sum(several for several, _ in seen), 3)
+        self.assertGreater(sum(disturbed for _, disturbed in seen), 10)
+
+
+class EventsToCome(unittest.TestCase):
+    """What is counted of events to come is never more than what is needed, or endings would be overlooked."""
+
+    def needed(self, moves, state, limit, known):
+        """The least number of events that bring a state to its end, or None if it is more than the limit."""
+        if (state, limit) not in known:
+            coming = moves.followers(state, 2)
+            rest = [self.needed(moves, some, limit - 1, known) for some in coming] if limit > 0 else []
+            counts = [count + 1 for count in rest if count is not None]
+            known[state, limit] = 0 if coming == [] else min(counts, default=None)
+        return known[state, limit]
+
+    def test_random_plans(self):
+        source = random.Random(183)
+        sharp = 0
+        for _ in range(250):
+            statement = lively_statement(source, probes=0.1, conditions=source.choice((0, 1, 2)))
+            database = lively_database(source, statement.schema, most=2, spread=1, least=1)
+            for plan in source.sample(list(plans_of(statement, hands="many")), 1):
+                moves, known = HandMoves(plan, database), {}
+                self.needed(moves, moves.noticed(moves.start()), 10, known)
+                bounds = LeastEvents(plan, moves)
+                for (state, limit), count in known.items():
+                    if count is not None:
+                        self.assertLessEqual(bounds.least(state, 24), count, (statement.text, plan.data, state))
+                        sharp += bounds.least(state, 24) == count
+        self.assertGreater(sharp, 1000)
 
 
 LARGE = [
