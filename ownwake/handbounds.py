@@ -4,13 +4,14 @@ Rows that no write can take out of the way of a scan, or let fail its tests, hav
 raised; so have the new rows that are made behind the place of the scan.
 """
 
+from ownwake.handfloors import MovingRows
 from ownwake.planparts import HEAP
 
 
 class LeastEvents:
     """A count of what has yet to come in a run, for its states."""
 
-    def __init__(self, plan, moves):
+    def __init__(self, plan, moves, limit):
         self._moves = moves
         self._last = len(plan.order)
         self._stays = [_stays(plan, level) for level in range(len(plan.order))]
@@ -18,10 +19,12 @@ class LeastEvents:
         grows = [_is_open(plan, level) and plan.statement.kind == "insert" for level in range(len(plan.order))]
         # By an index, the shared scan may be beyond a new row when it is made.
         self._grows = [grows[0] and plan.paths[0] == HEAP, *grows[1:]]
+        self._limit = limit
+        self._moving = MovingRows(plan, moves, self._stays, self._sure, limit)
 
-    def least(self, state, limit):
-        """A number of events without which the run does not end; it is not followed beyond a limit."""
-        hands = state[3]
+    def least(self, state):
+        """A number of events without which the run does not end; it is not followed beyond the limit."""
+        hands, limit = state[3], self._limit
         raised = [due for _, _, due in hands if due != ()]
         total = len(raised)
         for hand in hands:
@@ -32,7 +35,8 @@ class LeastEvents:
             total += self._outer(state, limit - total, raised)
         # Each of these rows has to be fetched, or to be written before that.
         targets = [self._moves.target(copies) for copies in raised]
-        return total + len([number for number in unsure if number not in targets])
+        left = [number for number in unsure if number not in targets]
+        return total + max(len(left), self._moving.least(state, targets))
 
     def _inner(self, state, hand, limit, raised):
         """How many events of level 2 a hand makes with its outer row; the matches that it raises are noted."""

@@ -96,9 +96,9 @@ class HandMoves:
         read = state[0] if self._fixed[level] is None else self._fixed[level]
         if self._marked[level]:
             read = [row for row in read if row[0] < self._following and row[0] not in state[1]]
-        return self._behind(read, outer, place)
+        return self.behind(read, outer, place)
 
-    def _behind(self, read, outer, place):
+    def behind(self, read, outer, place):
         """Those of some rows that lie behind a place of the scan behind these copies."""
         path = self._levels.path(len(outer) + 1)
         if path == HEAP:
@@ -179,7 +179,7 @@ class HandMoves:
         if level == 1 and self._is_open(0):
             return "vain" if self._levels.fails_alone(2, row) else "full"
         outers = [(some,) for some in self._old_rows(0) if self.passes((some,))] if level == 1 else [()]
-        within = [outer for outer in outers if self._behind([row], outer, ()) != []]
+        within = [outer for outer in outers if self.behind([row], outer, ()) != []]
         if within == []:
             return "out"
         if True not in [self.passes((*outer, row)) for outer in within]:
@@ -188,7 +188,7 @@ class HandMoves:
 
     def _met(self, row):
         """The numbers of the rows that are fetched in vain for a new outer row, if none of them passes."""
-        met = [some for _, some in self._behind(self._old_rows(1), (row,), ())]
+        met = [some for _, some in self.behind(self._old_rows(1), (row,), ())]
         if True in [self.passes((row, some)) for some in met]:
             return "full"
         return tuple([some[0] for some in met])

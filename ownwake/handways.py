@@ -28,9 +28,8 @@ class Endings:
 
     def __init__(self, plan, database, hands, limit):
         self._moves = HandMoves(plan, database)
-        self._bounds = LeastEvents(plan, self._moves)
+        self._bounds = LeastEvents(plan, self._moves, limit)
         self._hands = hands
-        self._limit = limit
         # States with the hands' names, their steps, and the states without names that they are.
         self._states = Catalog()
         self._ways = {}
@@ -63,7 +62,7 @@ class Endings:
     def _ends_within(self, bare, limit):
         """Whether a state without names can be brought to the end within so many events."""
         if bare not in self._least:
-            self._least[bare] = self._bounds.least(self._bare_states.thing(bare), self._limit)
+            self._least[bare] = self._bounds.least(self._bare_states.thing(bare))
         if limit >= self._most.get(bare, limit + 1):
             return True
         if limit < self._least[bare]:

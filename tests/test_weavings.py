@@ -260,17 +260,19 @@ class EventsToCome(unittest.TestCase):
     def test_random_plans(self):
         source = random.Random(183)
         sharp = 0
-        for _ in range(250):
-            statement = lively_statement(source, probes=0.1, conditions=source.choice((0, 1, 2)))
-            database = lively_database(source, statement.schema, most=2, spread=1, least=1)
-            for plan in source.sample(list(plans_of(statement, hands="many")), 1):
+        for turn in range(400):
+            kind = "update" if turn < 200 else None
+            statement = lively_statement(source, kind, probes=0.1, conditions=source.choice((1, 1, 2)))
+            database = lively_database(source, statement.schema, most=source.choice((1, 2)), spread=1, least=1)
+            plans = [plan for plan in plans_of(statement, hands="many") if kind is None or set(plan.paths) != {HEAP}]
+            for plan in source.sample(plans, min(1, len(plans))):
                 moves, known = HandMoves(plan, database), {}
                 self.needed(moves, moves.noticed(moves.start()), 10, known)
-                bounds = LeastEvents(plan, moves)
+                bounds = LeastEvents(plan, moves, 24)
                 for (state, limit), count in known.items():
                     if count is not None:
-                        self.assertLessEqual(bounds.least(state, 24), count, (statement.text, plan.data, state))
-                        sharp += bounds.least(state, 24) == count
+                        self.assertLessEqual(bounds.least(state), count, (statement.text, plan.data, state))
+                        sharp += bounds.least(state) == count
         self.assertGreater(sharp, 1000)
 
 
@@ -297,7 +299,7 @@ LARGE = [
 class ShortTimes(unittest.TestCase):
     def test_the_greatest_limits(self):
         for text, order, paths in LARGE:
-            for hands in (2, 3):
+            for hands in (2, 3, 5):
                 begun = time.time()
                 plan = planned(text, order, paths)
                 find_weaving(plan, FULL, hands=hands)
