@@ -4,7 +4,10 @@ import copy
 import random
 import unittest
 
+from ownwake.chains import links, raised_in_all
+from ownwake.choosing import choose
 from ownwake.clauses import settle, tree_holds
+from ownwake.costs import cost
 from ownwake.databases import Database
 from ownwake.deciding import decide
 from ownwake.differences import ring_holds, solution_holds, solve
@@ -13,6 +16,7 @@ from ownwake.keylooks import key_clauses, key_look, never_holds, refuses_holds, 
 from ownwake.lives import LiveRun
 from ownwake.meanings import matches, meaning
 from ownwake.plans import Plan, plans_of
+from ownwake.ratios import Ratio
 from ownwake.schemas import Schema
 from ownwake.soundchecks import disturbed_holds, sound_holds
 from ownwake.statements import Statement
@@ -55,6 +59,8 @@ class Conventions(unittest.TestCase):
             found.append(self.decided(plan))
             found.append(self.looked_at(plan, database))
             found.append((tuple(weavings(plan, database, limit=7)), find_weaving(plan, database, limit=7)))
+            found.append(self.chained(plan, database))
+        found.append(self.chosen(statement))
         found.append(self.seen(Statement.read(statement.schema, statement.text)))
         found.append(self.seen(Database.read(database.schema, database.text)))
         found.append(self.seen(Schema.read(statement.schema.text)))
@@ -72,11 +78,28 @@ class Conventions(unittest.TestCase):
         calls = [lambda: key_clauses(plan), lambda: key_look(plan), lambda: run_by_rows(plan, database)[:2]]
         return tuple(self.named(call) for call in calls)
 
+    def chained(self, plan, database):
+        """What is told of chains, or the kinds of the errors."""
+        calls = [lambda: raised_in_all(plan, database), *[lambda number=number: links(plan, database, number)
+                                                          for number in (0, 1)]]
+        return tuple(self.named(call) for call in calls)
+
+    def chosen(self, statement):
+        """What a plan costs, and which one is chosen."""
+        sizes = tuple((table, 9) for table in sorted({table for _, table in statement.references}))
+        shares = (Ratio(1, 3),) * (len(statement.conditions) + len(statement.probes))
+        costs = tuple(str(cost(plan, sizes, shares)) for plan in plans_of(statement))
+        found = []
+        for hands in ("one", "many"):
+            plan, paper = choose(statement, sizes, shares, hands=hands)
+            found.append((self.seen(plan), paper))
+        return costs, tuple(found)
+
     def named(self, call):
         try:
             return call()
         except WakeError as error:
-            return type(error).__name__, error.plan_data
+            return type(error).__name__, tuple(vars(error).values())
 
     def test_results_are_plain_and_the_same_again(self):
         for statement, database in self.cases:
@@ -107,7 +130,7 @@ class Conventions(unittest.TestCase):
             lambda thing: solution_holds((), thing), lambda thing: tree_holds(((),), thing),
             lambda thing: sound_holds(plan, thing), lambda thing: disturbed_holds(plan, thing),
             lambda thing: disturbed_holds(plan, (database.data, thing)), lambda thing: refuses_holds(chained, thing),
-            lambda thing: never_holds(chained, thing)]
+            lambda thing: never_holds(chained, thing), lambda thing: links(chained, database, thing)]
         for thing in ODD + [[["t"], [], ()], {"a": [{"b": ([],)}]}, ([[("t", 0)]],), "x" * 4000, "\n" * 4000]:
             before = copy.deepcopy(thing)
             for call in calls:

@@ -2,6 +2,9 @@
 
 import unittest
 
+from ownwake.chains import links, raised_in_all
+from ownwake.choosing import choose
+from ownwake.costs import cost
 from ownwake.databases import Database
 from ownwake.deciding import decide
 from ownwake.errors import Duplicate
@@ -9,6 +12,7 @@ from ownwake.keylooks import key_look, run_by_rows
 from ownwake.lives import LiveRun
 from ownwake.meanings import meaning
 from ownwake.plans import Plan
+from ownwake.ratios import Ratio
 from ownwake.schemas import Schema
 from ownwake.statements import Statement
 from ownwake.suspects import suspects_of
@@ -43,6 +47,13 @@ class Examples(unittest.TestCase):
         self.assertEqual([suspects_of(UP), decide(UP)[0], decide(UP.turned("x"))], [
             ((('raised', (1,), (0,)), ((((('written', (0,), 'a'), (), 3),),), (((('written', (0,), 'a'), (), 5),),))),),
             'disturbed', ('sound', ())])
+
+    def test_chains(self):
+        self.assertEqual([links(UP, DATA, 0), links(UP, DATA, 1), raised_in_all(UP, DATA)], [3, 1, 4])
+
+    def test_the_cheapest_sound_plan(self):
+        found = [str(cost(UP, (("t", 9),), (Ratio(1, 3),))), choose(ADD, (("t", 9),), (Ratio(1, 3),))[1]]
+        self.assertEqual(found, ['3', ((('x',), (('down', 'a'),), 0, (), False, 'one'), (), ())])
 
     def test_keys_row_by_row(self):
         following = Statement(KEYED, "update", "t", (("x", "t"),), conditions=((("x", "k"), "<=", None, 9),),

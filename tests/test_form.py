@@ -134,7 +134,7 @@ class Form(unittest.TestCase):
         self.assertEqual(list(nodes((ast.Lambda, ast.NamedExpr))), [])
 
     def test_library(self):
-        words = {"heapq": {"heappush", "heappop"}, "math": {"gcd"}, "itertools": {"product", "combinations", "permutations"}}
+        words = {"heapq": {"heappush", "heappop"}, "math": {"gcd", "lcm"}, "itertools": {"product", "combinations", "permutations"}}
         for name, node in nodes(ast.ImportFrom):
             if node.module in MODULES:
                 self.assertLessEqual({alias.name for alias in node.names}, words[node.module], name)
@@ -163,11 +163,13 @@ class Form(unittest.TestCase):
             if bound:
                 self.assertFalse(hasattr(builtins, word) and word not in DUNDERS, (name, word))
             if bound and word == "_":
-                self.assertIsInstance(node, ast.Name, name)
+                self.assertIsInstance(node, (ast.Name, ast.arg), name)
             if isinstance(node, ast.Name) and isinstance(node.ctx, ast.Load):
                 self.assertNotEqual(word, "_", (name, node.lineno))
         for name, node in nodes(ast.Attribute):
             self.assertNotIn(node.attr, BARRED, name)
+        for name, node in nodes(ast.ClassDef):
+            self.assertRegex(node.name, r"^[A-Z][A-Za-z]*$", name)
 
     def test_no_local_name_is_that_of_an_import_or_a_class(self):
         for name, tree in TREES.items():

@@ -17,6 +17,9 @@ FUNCTIONS = {
     "soundchecks": ["sound_holds(plan, thing)", "disturbed_holds(plan, thing)"],
     "keylooks": ["run_by_rows(plan, database)", "key_clauses(plan)", "key_look(plan)", "refuses_holds(plan, thing)",
                  "never_holds(plan, thing)"],
+    "chains": ["links(plan, database, number)", "raised_in_all(plan, database)"],
+    "costs": ["cost(plan, sizes, shares)"],
+    "choosing": ["choose(statement, sizes, shares, *, hands='one')"],
 }
 CLASSES = {
     ("schemas", "Schema"): ["read", "__getitem__", "__contains__", "__len__", "__eq__", "tables", "text"],
@@ -27,6 +30,7 @@ CLASSES = {
     ("scans", "LiveTable"): ["put", "change", "drop", "rows", "__len__", "__contains__", "next_row", "scan"],
     ("plans", "Plan"): ["turned", "__eq__", "statement", "data", "order", "paths", "hold", "marks", "keep", "hands",
                         "lines"],
+    ("ratios", "Ratio"): ["top", "bottom", "__add__", "__sub__", "__mul__", "is_less", "__eq__", "__bool__", "__str__"],
     ("lives", "LiveRun"): ["step", "go", "play", "__len__", "plan", "data", "events", "raised", "ended", "refused"],
 }
 
