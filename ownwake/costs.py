@@ -19,6 +19,11 @@ def cost(plan, sizes, shares):
     return total + passed + passed if plan.keep else total
 
 
+def sized_tables(statement):
+    """The names of the tables whose sizes a cost needs, ascending."""
+    return sorted(set([table for _, table in statement.references]))
+
+
 def _shares_at(plan, level, shares):
     """The share of rows to which the scan of a level is bounded, and the share of these that pass its other tests."""
     conditions = plan.statement.conditions

@@ -83,6 +83,11 @@ class Database:
         return isinstance(other, Database) and self._schema == other._schema and self._data == other._data
 
 
+def next_number(database, name):
+    """The number that the next new row of a table gets."""
+    return [part[1] for part in database.data if part[0] == name][0]
+
+
 def first_duplicate(table, rows):
     """The first key column of a table, and its least value, that two of the rows have; or None."""
     columns, keyed = table[1], table[3]

@@ -29,7 +29,7 @@ def is_ascending(things):
 
 
 def is_same(thing, expected):
-    """Whether any value is built as a value of tuples, strings and integers; True and False are no integers."""
+    """Whether any value is built as a value of tuples, strings, integers and bools; True and False are no integers."""
     if isinstance(expected, tuple):
         return is_tuple(thing, len(expected)) and all([is_same(one, other) for one, other in zip(thing, expected)])
-    return thing == expected and not isinstance(thing, bool)
+    return thing == expected and isinstance(thing, bool) == isinstance(expected, bool)

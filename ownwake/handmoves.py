@@ -7,6 +7,7 @@ always ahead. Levels are counted from 0 here.
 """
 
 from ownwake.cells import made, settled
+from ownwake.databases import next_number
 from ownwake.levels import Levels
 from ownwake.planparts import HEAP
 
@@ -25,7 +26,7 @@ class HandMoves:
         self._fixed = [None if name == statement.table else database[name] for name in names]
         self._marked = [alias in plan.marks for alias in plan.order]
         self._first_rows = database[statement.table] if None in self._fixed else ()
-        self._following = [part[1] for part in database.data if part[0] == statement.table][0]
+        self._following = next_number(database, statement.table)
         # What is asked of copies and of new rows is asked again and again.
         self._passing = {}
         self._bounding = {}

@@ -1,7 +1,7 @@
 """Live runs: a plan carried out event by event, while its scans stay open."""
 
 from ownwake.cells import made, settled, telling
-from ownwake.databases import first_duplicate
+from ownwake.databases import first_duplicate, next_number
 from ownwake.errors import Idle
 from ownwake.levels import Levels
 from ownwake.scans import LiveTable, place_of
@@ -15,11 +15,10 @@ class LiveRun:
 
     def __init__(self, plan, database):
         statement = plan.statement
-        following = [part[1] for part in database.data if part[0] == statement.table][0]
         self._plan = plan
         self._database = database
         self._levels = Levels(plan, database)
-        self._table = LiveTable(database[statement.table], following)
+        self._table = LiveTable(database[statement.table], next_number(database, statement.table))
         self._read = [self._table_for(level) for level in range(1, len(plan.order) + 1)]
         self._touched = {}
         self._place = None

@@ -84,14 +84,14 @@ def _read_tables(lines):
     """The tables that lines tell, whether or not a schema can have them."""
     tables = []
     for at, line in enumerate(lines):
-        table = _read_table(line)
+        table = read_table(line)
         if table is None or tables and table[0] <= tables[-1][0]:
             raise InvalidText(at)
         tables.append(table)
     return tables
 
 
-def _read_table(line):
+def read_table(line):
     """The table that a line tells, or None if the line does not have the form."""
     front, _, rest = line.partition(" (")
     inner, closing, back = rest.partition(")")

@@ -5,13 +5,16 @@ import random
 import unittest
 
 from ownwake.chains import links, raised_in_all
+from ownwake.choicechecks import choice_holds
 from ownwake.choosing import choose
 from ownwake.clauses import settle, tree_holds
+from ownwake.consoles import Console
 from ownwake.costs import cost
 from ownwake.databases import Database
 from ownwake.deciding import decide
 from ownwake.differences import ring_holds, solution_holds, solve
 from ownwake.errors import WakeError
+from ownwake.findings import finding_holds
 from ownwake.keylooks import key_clauses, key_look, never_holds, refuses_holds, run_by_rows
 from ownwake.lives import LiveRun
 from ownwake.meanings import matches, meaning
@@ -20,6 +23,7 @@ from ownwake.ratios import Ratio
 from ownwake.schemas import Schema
 from ownwake.soundchecks import disturbed_holds, sound_holds
 from ownwake.statements import Statement
+from ownwake.stores import Store
 from ownwake.suspects import suspects_of
 from ownwake.verdicts import verdict
 from ownwake.weavings import find_weaving, weavings
@@ -61,6 +65,7 @@ class Conventions(unittest.TestCase):
             found.append((tuple(weavings(plan, database, limit=7)), find_weaving(plan, database, limit=7)))
             found.append(self.chained(plan, database))
         found.append(self.chosen(statement))
+        found.append(self.stored(statement, database))
         found.append(self.seen(Statement.read(statement.schema, statement.text)))
         found.append(self.seen(Database.read(database.schema, database.text)))
         found.append(self.seen(Schema.read(statement.schema.text)))
@@ -95,6 +100,21 @@ class Conventions(unittest.TestCase):
             found.append((self.seen(plan), paper))
         return costs, tuple(found)
 
+    def stored(self, statement, database):
+        """What a store and a console do and answer, or the kinds of the errors."""
+        store, console = Store(statement.schema), Console()
+        text = statement.text.replace("\n", "; ")
+        found = [self.named(lambda line=line: console.say(line)) for line in statement.schema.text.split("\n")]
+        for name, _, rows in database.data:
+            for _, values in rows:
+                found.append(store.put(name, *values))
+                found.append(self.named(lambda: console.say(" ".join(map(str, ("row", name, *values))))))
+        found += [self.named(lambda: store.execute(statement)), self.named(lambda: store.explain(statement)), len(store)]
+        found += [self.named(lambda word=word: console.say(f"{word} {text}")) for word in ("plan", "sound", "do")]
+        found += [self.seen(store.database), store.undo(), self.seen(store.database), store.hands]
+        found += [self.named(lambda line=line: console.say(line)) for line in ("show t", "undo", "show t")]
+        return tuple(found)
+
     def named(self, call):
         try:
             return call()
@@ -113,7 +133,8 @@ class Conventions(unittest.TestCase):
     def test_arguments_of_any_kind_stay(self):
         statement, database = self.cases[0]
         schema, plan = database.schema, Plan(statement)
-        chained = Plan(Statement(schema, "update", "t", (("x", "t"),), settings=(("a", ("x", "a"), 1),)))
+        chained = Statement(schema, "update", "t", (("x", "t"),), settings=(("a", ("x", "a"), 1),))
+        chained_plan = Plan(chained)
         calls = [
             lambda thing: Schema(thing), lambda thing: Schema.read(thing), lambda thing: schema[thing],
             lambda thing: thing in schema, lambda thing: Database(schema, thing),
@@ -129,8 +150,15 @@ class Conventions(unittest.TestCase):
             lambda thing: Plan(statement, keep=thing, hands=thing), lambda thing: ring_holds((), thing),
             lambda thing: solution_holds((), thing), lambda thing: tree_holds(((),), thing),
             lambda thing: sound_holds(plan, thing), lambda thing: disturbed_holds(plan, thing),
-            lambda thing: disturbed_holds(plan, (database.data, thing)), lambda thing: refuses_holds(chained, thing),
-            lambda thing: never_holds(chained, thing), lambda thing: links(chained, database, thing)]
+            lambda thing: disturbed_holds(plan, (database.data, thing)), lambda thing: refuses_holds(chained_plan, thing),
+            lambda thing: never_holds(chained_plan, thing), lambda thing: links(chained_plan, database, thing)]
+        sizes, shares = (("t", 9),), ()
+        calls += [
+            lambda thing: choice_holds(chained, sizes, shares, "one", thing), lambda thing: finding_holds(thing),
+            lambda thing: finding_holds(("sound", schema.tables, thing, thing, thing)),
+            lambda thing: finding_holds(("links", thing, thing, thing, thing, thing, thing)),
+            lambda thing: Store(schema).put(thing, thing), lambda thing: Store(schema).put("t", thing, thing),
+            lambda thing: Console().say(thing)]
         for thing in ODD + [[["t"], [], ()], {"a": [{"b": ([],)}]}, ([[("t", 0)]],), "x" * 4000, "\n" * 4000]:
             before = copy.deepcopy(thing)
             for call in calls:

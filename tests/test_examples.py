@@ -1,9 +1,10 @@
-"""The document's examples, as far as the modules that they use are there."""
+"""The document's examples."""
 
 import unittest
 
 from ownwake.chains import links, raised_in_all
 from ownwake.choosing import choose
+from ownwake.consoles import Console
 from ownwake.costs import cost
 from ownwake.databases import Database
 from ownwake.deciding import decide
@@ -67,6 +68,14 @@ class Examples(unittest.TestCase):
             meaning(five, TWO)
         self.assertEqual((caught.exception.column, caught.exception.value), ('k', 5))
         self.assertEqual(repr(caught.exception), "Duplicate('k', 5)")
+
+    def test_a_console(self):
+        console = Console()
+        add = "update t from x t; where x.a <= 5; set a to x.a + 2"
+        made = [console.say("table t (a) index a"), console.say("row t 1"), console.say("row t 4")]
+        self.assertEqual(made, ["ok", "0", "1"])
+        found = [console.say("do " + add), console.say("show t"), console.say("sound " + add), console.say("plan " + add)]
+        self.assertEqual(found, ['0; 1', '0: 3; 1: 6', 'sound', '1: scan x down a'])
 
 
 if __name__ == "__main__":

@@ -214,6 +214,25 @@ class Form(unittest.TestCase):
                         plain = token.string.replace("\\\\", "").replace("\\n", "").replace("\\\"", "")
                         self.assertNotIn("\\", plain, name)
 
+    def test_finally(self):
+        # A `finally` only puts values back, and asks only whether something is None.
+        for name, node in nodes(ast.Try):
+            for part in (some for line in node.finalbody for some in ast.walk(line)):
+                self.assertIsInstance(part, (ast.Assign, ast.If, ast.Compare, ast.Is, ast.IsNot, ast.Name, ast.Attribute,
+                                             ast.Constant, ast.expr_context), (name, node.lineno))
+                if isinstance(part, ast.If):
+                    self.assertIsInstance(part.test, ast.Compare, name)
+
+    def test_errors(self):
+        own = {node.name for node in TREES["errors.py"].body if isinstance(node, ast.ClassDef)}
+        for name, node in nodes(ast.ExceptHandler):
+            caught = node.type.elts if isinstance(node.type, ast.Tuple) else [node.type]
+            for some in caught:
+                self.assertIn(some.id, own, (name, node.lineno))
+        for name, node in nodes(ast.Raise):
+            if node.exc is not None:
+                self.assertIn(node.exc.func.id, own | {"TypeError"}, (name, node.lineno))
+
     def test_module_level(self):
         for name, tree in TREES.items():
             names = []

@@ -20,6 +20,8 @@ FUNCTIONS = {
     "chains": ["links(plan, database, number)", "raised_in_all(plan, database)"],
     "costs": ["cost(plan, sizes, shares)"],
     "choosing": ["choose(statement, sizes, shares, *, hands='one')"],
+    "choicechecks": ["choice_holds(statement, sizes, shares, hands, thing)"],
+    "findings": ["finding_holds(thing)"],
 }
 CLASSES = {
     ("schemas", "Schema"): ["read", "__getitem__", "__contains__", "__len__", "__eq__", "tables", "text"],
@@ -30,6 +32,8 @@ CLASSES = {
     ("scans", "LiveTable"): ["put", "change", "drop", "rows", "__len__", "__contains__", "next_row", "scan"],
     ("plans", "Plan"): ["turned", "__eq__", "statement", "data", "order", "paths", "hold", "marks", "keep", "hands",
                         "lines"],
+    ("stores", "Store"): ["schema", "database", "hands", "put", "execute", "explain", "__len__", "undo", "together"],
+    ("consoles", "Console"): ["say", "store"],
     ("ratios", "Ratio"): ["top", "bottom", "__add__", "__sub__", "__mul__", "is_less", "__eq__", "__bool__", "__str__"],
     ("lives", "LiveRun"): ["step", "go", "play", "__len__", "plan", "data", "events", "raised", "ended", "refused"],
 }
@@ -43,6 +47,17 @@ class Interface(unittest.TestCase):
                 function = getattr(module, some.partition("(")[0])
                 self.assertEqual(function.__name__ + str(inspect.signature(function)), some)
                 self.assertEqual(function.__module__, module.__name__)
+
+    def test_methods(self):
+        told = {("stores", "Store"): ["__init__(self, schema, *, hands='one')", "put(self, name, *values)", "undo(self)",
+                                      "execute(self, statement)", "explain(self, statement)", "together(self, work, *arguments)"],
+                ("consoles", "Console"): ["__init__(self)", "say(self, line)"],
+                ("ratios", "Ratio"): ["__init__(self, top, bottom=1)", "is_less(self, other)"]}
+        for (name, word), methods in told.items():
+            found = getattr(importlib.import_module("ownwake." + name), word)
+            for some in methods:
+                method = vars(found)[some.partition("(")[0]]
+                self.assertEqual(method.__name__ + str(inspect.signature(method)), some)
 
     def test_generators(self):
         for name, word in [("meanings", "matches"), ("plans", "plans_of"), ("weavings", "weavings")]:

@@ -1,5 +1,7 @@
 """Values that are not quite another one, and slow checks of rings, solutions and trees that are easy to believe."""
 
+from ownwake.differences import solve
+
 
 def variants(thing):
     """Values that differ from a nested tuple in one place: another kind, a part less, more, exchanged, changed."""
@@ -84,6 +86,17 @@ def slow_tree(clauses, thing, chosen=(), split=()):
         return False
     return all(slow_tree(clauses, some, (*chosen, alternative), (*split, thing[1]))
                for alternative, some in zip(thing[1], thing[2]))
+
+
+def drawn_tree(source, clauses, chosen=(), split=()):
+    """A tree of clauses that splits what it likes, and begins its rings where it likes; they must have one."""
+    atoms = [atom for clause in clauses if len(clause) == 1 for atom in clause[0]]
+    word, ring = solve((*atoms, *[atom for some in chosen for atom in some]))
+    if word == "ring":
+        at = source.randrange(len(ring))
+        return "ring", ring[at:] + ring[:at]
+    clause = source.choice([clause for clause in clauses if len(clause) != 1 and clause not in split])
+    return "split", clause, tuple(drawn_tree(source, clauses, (*chosen, some), (*split, clause)) for some in clause)
 
 
 SHORT_ROLES = {"w": "written", "o": "other", "f": "first", "s": "second"}
