@@ -39,11 +39,11 @@ class Values:
 
     def least(self):
         """The least value, or None."""
-        return min(self._values, default=None)
+        return self._values[0] if self._values != [] else None
 
     def most(self):
         """The greatest value, or None."""
-        return max(self._values, default=None)
+        return self._values[-1] if self._values != [] else None
 
     def first_missed(self, start, step):
         """The first place at which a progression is none of the values, or None."""

@@ -214,7 +214,7 @@ class NoPapers(CheckTest):
     def test_variants(self):
         source = random.Random(40)
         papers = [(COPY, (("t", 9),), THIRDS[:1], hands) for hands in ("one", "many")]
-        while len(papers) < 7:
+        while len(papers) < 6:
             statement = lively_statement(source, probes=0.3, conditions=2)
             sizes, shares = drawn(source, statement)
             hands = source.choice(("one", "many"))
@@ -223,7 +223,7 @@ class NoPapers(CheckTest):
                 papers.append((statement, sizes, shares, hands))
         for statement, sizes, shares, hands in papers:
             things = list(variants(choose(statement, sizes, shares, hands=hands)[1]))
-            for thing in source.sample(things, min(len(things), 150)):
+            for thing in source.sample(things, min(len(things), 80)):
                 self.check(statement, sizes, shares, hands, thing)
 
     def test_bools_are_no_integers(self):

@@ -176,7 +176,7 @@ class Choices(ChooseTest):
     def test_random_statements(self):
         source = random.Random(35)
         seen = []
-        for _ in range(130):
+        for _ in range(90):
             statement = lively_statement(source, probes=0.3, keyed=0.1, conditions=source.choice((0, 1, 2, 2, 3)))
             sizes, shares = drawn(source, statement)
             for hands in ("one", "many"):

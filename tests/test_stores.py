@@ -166,18 +166,34 @@ class Statements(StoreTest):
         self.assertEqual(filled("many").explain(ADD), ("1: scan x down a", "many hands"))
 
     def test_shares(self):
-        # A scan of t that is bounded to a tenth or a third comes before one of u, or behind it.
-        for sign, rows, first in [("=", 5, "x"), ("<=", 5, "y"), ("<=", 2, "x"), ("=", 12, "y")]:
-            text = f"insert p from x t, y u\nwhere x.a {sign} 3\nset q to 1"
-            statement = Statement.read(SCHEMA, text)
+        # With x first the cost is t + share * t * 3, with y first it is 3 + 3 * t.
+        for test, rows, first in [("where x.b != 3", 4, "x"), ("where x.b != 3", 5, "y"), ("where x.b <= 3", 200, "x"),
+                                  ("where x.b = 3\nwhere x.b != 3", 200, "x"),
+                                  ("where x.b != 3\nwhere x.b != 4", 6, "x"), ("where x.b != 3\nwhere x.b != 4", 8, "y")]:
+            statement = Statement.read(SCHEMA, f"insert p from x t, y u\n{test}\nset q to 1")
             for hands in ("one", "many"):
                 store = filled(hands, t=[(1, 1)] * rows, u=[(k, 0) for k in range(3)])
                 self.assertEqual(store.explain(statement), slow_chosen(statement, store.database, hands).lines)
+                self.assertEqual(store.explain(statement)[0], f"1: scan {first} heap")
+
+    def test_the_share_of_a_probe(self):
+        # Of two scans of one table the one of which less passes comes first: a half, if the probe is asked of x.
+        for sign, first in [("!=", "x"), ("<=", "y"), ("=", "y")]:
+            for word in ("some", "none"):
+                text = f"insert u from x t, y t\nwhere y.b {sign} 3\n{word} p where q = x.b\nset k to 1\nset c to 1"
+                self.assertEqual(filled().explain(Statement.read(SCHEMA, text))[0], f"1: scan {first} heap")
+
+    def test_shares_of_bounds(self):
+        # With u first a bounded scan of t costs 3 + 3 * share * t, with t first share * t + share * t * 3.
+        for sign, rows, first in [("<=", 8, "x"), ("<=", 10, "y"), ("=", 29, "x"), ("=", 31, "y")]:
+            statement = Statement.read(SCHEMA, f"insert p from x t, y u\nwhere x.a {sign} 3\nset q to 1")
+            store = filled(t=[(1, 1)] * rows, u=[(k, 0) for k in range(3)])
+            self.assertEqual(store.explain(statement)[0], f"1: scan {first} " + ("down a" if first == "x" else "heap"))
 
     def test_random_stores(self):
         source = random.Random(41)
         seen = {"refused": 0, "done": 0, "turned": 0, "undone": 0}
-        for _ in range(120):
+        for _ in range(90):
             kind = source.choice(("update", "insert", "insert", "delete"))
             first = lively_statement(source, kind, probes=0.3, keyed=source.choice((0, 0, 0.6)))
             for hands in ("one", "many"):
